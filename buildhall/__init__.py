@@ -1,0 +1,1 @@
+"""Buildhall: a hall of builders."""
