@@ -1,4 +1,4 @@
-"""Holds the package's files to the rules of LANGUAGE.md that can be told from a file's form alone."""
+"""Holds the package's files to a part of LANGUAGE.md: files, signs, sizes, forms and names. L13, L15, L18 to L24 and others are not."""
 
 import ast
 import builtins
