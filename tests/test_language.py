@@ -1,4 +1,7 @@
-"""Holds the package's files to a part of LANGUAGE.md: files, signs, sizes, forms and names. L13, L15, L18 to L24 and others are not."""
+"""Holds the package's files to a part of LANGUAGE.md: files, signs, sizes, forms and names.
+
+The other rules (L13, L15, L18 to L24 among them) are not held here.
+"""
 
 import ast
 import builtins
