@@ -1,5 +1,21 @@
 """The refusals of the program: each stands right under HallError, none under another one."""
 
+# A list may hold itself: so a copy goes down no farther than this.
+MOST_DEEP = 6
+
+
+def own_copy(thing, deep):
+    # What was handed in may be changed later; what an error tells stays.
+    if deep == 0:
+        return thing
+    if isinstance(thing, list):
+        return [own_copy(part, deep - 1) for part in thing]
+    if isinstance(thing, tuple):
+        return tuple([own_copy(part, deep - 1) for part in thing])
+    if isinstance(thing, dict):
+        return dict([(key, own_copy(thing[key], deep - 1)) for key in thing])
+    return thing
+
 
 class HallError(ValueError):
     pass
@@ -60,9 +76,9 @@ class BadBuilders(HallError):
 class NoJob(HallError):
     def __init__(self, name):
         # What was asked for may be of any kind, and not each kind can be written
-        # into a text (a number may have too many figures): so it goes on as it is.
-        HallError.__init__(self, name)
-        self.name = name
+        # into a text (a number may have too many figures): so the words leave it out.
+        HallError.__init__(self, "no job has the name that was asked for")
+        self.name = own_copy(name, MOST_DEEP)
 
 
 class Ring(HallError):

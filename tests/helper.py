@@ -1,6 +1,7 @@
 """What the tests share: values of every kind, and the check of a refusal."""
 
 from buildhall import errors
+from buildhall.jobs import Job
 
 ALL_REFUSALS = (
     "BadName", "BadNumber", "BadNeeds", "BadPlan", "Twice", "Busy", "Gone", "BadTerm", "NoAlarm",
@@ -41,3 +42,46 @@ def refused(test, kind, call, *given, **named):
         test.assertIsInstance(error, ValueError)
         return error
     return test.fail("not refused: " + shown((given, named)))
+
+
+class Draw:
+    """Numbers that look drawn, and are the same each time and under each Python."""
+
+    def __init__(self, seed):
+        self.now = seed * 2654435761 + 12345
+
+    def below(self, most):
+        self.now = (self.now * 6364136223846793005 + 1442695040888963407) % 2 ** 64
+        return (self.now >> 33) % most
+
+    def among(self, least, most):
+        return least + self.below(most - least + 1)
+
+    def pick(self, row):
+        return row[self.below(len(row))]
+
+    def mixed(self, row):
+        left = list(row)
+        return [left.pop(self.below(len(left))) for thing in row]
+
+
+def name_at(number):
+    """Unlike names: a to z, then ba, bb and so on."""
+    letters = "abcdefghijklmnopqrstuvwxyz"
+    text = letters[number % 26]
+    return text if number < 26 else name_at(number // 26) + text
+
+
+def drawn_jobs(draw, many, most_needs=3, **most):
+    """Jobs without a ring, mixed; of the numbers named here up to that most."""
+    names = draw.mixed([name_at(number) for number in range(many)])
+    made = []
+    for place, name in enumerate(names):
+        needs = draw.mixed(names[:place])[:draw.below(most_needs + 1)]
+        least = {"rank": 0, "span": 1, "tries": 1, "wait": 0, "grow": 1}
+        made.append(Job(name, needs, **{part: draw.among(least[part], most[part]) for part in sorted(most)}))
+    return draw.mixed(made)
+
+
+def told_job(job):
+    return (job.name, job.needs, job.rank, job.span, job.tries, job.wait, job.grow)
