@@ -1,6 +1,29 @@
-"""Lists of lines, read line by line."""
+"""Forms of tuples and of lines, and lists of lines that are read one by one.
+
+A form is a tuple: a word, then the sort of each part behind it. Sorts are "name", "turn",
+"number", and "left" for a number from 1 on.
+"""
 
 from buildhall.errors import BadLine
+from buildhall.words import MOST_NUMBER, MOST_TURN, is_among, is_name
+
+
+def is_part(thing, sort):
+    if sort == "name":
+        return is_name(thing)
+    least = 1 if sort == "left" else 0
+    most = MOST_TURN if sort == "turn" else MOST_NUMBER
+    return is_among(thing, least, most)
+
+
+def are_parts(things, sorts, check):
+    return len(things) == len(sorts) and all([check(thing, sort) for thing, sort in zip(things, sorts)])
+
+
+def is_formed(thing, forms, check):
+    if not isinstance(thing, tuple) or not thing:
+        return False
+    return any([form[0] == thing[0] and are_parts(thing[1:], form[1:], check) for form in forms])
 
 
 def read_all(lines, read):

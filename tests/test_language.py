@@ -361,7 +361,7 @@ class Rows(unittest.TestCase):
                     self.assertIn(kind.id, list(own) + ["KeyError", "ZeroDivisionError", "StopIteration"], place)
             else:
                 self.assertIsInstance(node.exc, ast.Call, place)
-                self.assertIn(node.exc.func.id, list(own) + ["NotImplementedError"], place)
+                self.assertIn(node.exc.func.id, own, place)
                 self.assertTrue(node.cause is None or isinstance(node.cause, (ast.Constant, ast.Name)), place)
 
     def test_is_stands_beside_none_true_and_false(self):
@@ -411,6 +411,8 @@ class Rows(unittest.TestCase):
                 around = above[node]
                 good = isinstance(around, (ast.For, ast.comprehension)) and around.iter == node
                 good = good or called(around) in WALKERS and around.args[0] == node
+                alone = len(around.args) == 1 and not around.keywords if isinstance(around, ast.Call) else True
+                good = good and (alone or called(around) not in ("min", "max"))
                 good = good or called(around) == "zip"
                 self.assertTrue(good, (name, node.lineno))
 
