@@ -19,6 +19,8 @@ NO_NAMES = NO_TEXTS + (
 NO_WHOLES = (
     None, True, False, "", "0", "1", "a", 1.0, 0.0, [], [1], (), (1,), {}, {1: 1}, {1}, b"1", object(), int, len,
 )
+# What is no number of a lease while fewer than a hundred were given.
+NO_NUMBERS = NO_WHOLES + NO_TEXTS[7:] + (-1, -2, -(10 ** 30), 10 ** 30, "0", "zero", ["0"], (0,), {0: 0}, [0], [[]])
 
 
 def own_classes(error):

@@ -3,9 +3,7 @@ import unittest
 
 from buildhall.errors import BadTerm, Busy, Gone
 from buildhall.leases import Leases
-from tests.helper import NO_TEXTS, NO_WHOLES, Draw, refused
-
-NO_NUMBERS = NO_WHOLES + NO_TEXTS[7:] + (-1, -2, -(10 ** 30), 10 ** 30, "0", "zero", ["0"], (0,), {0: 0}, [0], [[]])
+from tests.helper import NO_NUMBERS, NO_TEXTS, NO_WHOLES, Draw, refused
 
 
 def as_it_is(leases):
