@@ -32,7 +32,7 @@ def lead(hall, entries):
 
 
 def check_same(rows, at, wrote):
-    for entry, own in zip(rows[at:], wrote):
+    for entry, own in zip(rows[at:at + len(wrote)], wrote):
         # To Python True is 1 too, so what is like an entry may be none.
         if not is_entry(entry) or entry != own:
             raise BadBook(at)
@@ -52,7 +52,9 @@ def deed_by(hall, entry):
 def deed(hall, entry):
     word = entry[0]
     if word == "turn":
-        return turn_deed(hall, entry[1])
+        # One that isn't later is refused or writes nothing; where an alarm rings ahead
+        # of it, the turn of that is written first.
+        return hall.pass_on(entry[1] - hall.turn)
     if word == "lease":
         return hall.ask(entry[3])
     if word == "renew":
@@ -62,10 +64,3 @@ def deed(hall, entry):
     if word == "fail":
         return hall.fail(entry[1], entry[2])
     return []
-
-
-def turn_deed(hall, turn):
-    rings = hall.next_turn()
-    if turn <= hall.turn or rings is not None and rings < turn:
-        return []
-    return hall.pass_on(turn - hall.turn)

@@ -228,6 +228,18 @@ class Point10Places(unittest.TestCase):
         row.append("roof")
         self.assertEqual(error.name, ([], 7))
 
+    def test_no_job_keeps_nothing_that_was_handed_in(self):
+        asked = ["roof"]
+        error = refused(self, NoJob, Plan(house()).place_of, asked)
+        self.assertFalse(any(part is asked for part in (error.name,) + error.args))
+
+    def test_no_job_tells_what_lies_deep(self):
+        asked = ["roof"]
+        for turn in range(40):
+            asked = [asked, (asked,), {"a": asked}][turn % 3:turn % 3 + 1]
+        error = refused(self, NoJob, Plan(house()).place_of, asked)
+        self.assertEqual(error.name, asked)
+
     def test_a_list_that_holds_itself(self):
         row = ["roof"]
         row.append(row)

@@ -245,6 +245,12 @@ class Point53Books(unittest.TestCase):
         self.assertEqual(refused(self, BadBook, go_on, hall, hall.book).place, 0)
         self.assertEqual(hall.entries(), [("turn", 3)])
 
+    def test_a_book_that_grows_while_it_leads(self):
+        hall = hall_of(plan_of(["job a"]), ["hall 5 2 1", "job 0 leased 0 0", "lease 0 0 ann 1 6", "end 3"])
+        hall.renew(0)
+        go_on(hall, hall.book)
+        self.assertEqual(hall.entries(), [("renew", 0, 7), ("renew", 0, 7)])
+
 
 class DrawnBooks(unittest.TestCase):
     def test_cut_off_at_every_place(self):

@@ -345,6 +345,16 @@ class Point52Agree(unittest.TestCase):
         self.bad(13, bent({12: SHOT[13], 13: SHOT[12]}))
         self.bad(13, SHOT[:13] + [SHOT[12], SHOT[13], "end 15"])
         self.bad(13, SHOT[:13] + [SHOT[12], "end 14"])
+        self.bad(13, SHOT[:13] + ["lease 5 6 zoe 12 25", SHOT[13], "end 15"])
+
+    def test_the_order_of_three_leases(self):
+        plan = plan_of(["job a", "job b", "job c"])
+        jobs = ["hall 5 3 9", "job 0 leased 0 2", "job 1 leased 0 4", "job 2 leased 0 6"]
+        leases = ["lease 2 0 ann 1 6", "lease 4 1 bob 1 6", "lease 6 2 cy 1 6"]
+        good = jobs + leases + ["end 7"]
+        self.assertEqual(shot(hall_of(plan, good)), good)
+        for order, place in (((0, 2, 1), 6), ((1, 0, 2), 5), ((2, 1, 0), 5), ((1, 2, 0), 6), ((2, 0, 1), 5)):
+            self.bad(place, jobs + [leases[at] for at in order] + ["end 7"], plan)
 
     def test_a_worker_with_a_lease_ahead(self):
         self.bad(13, bent({13: "lease 7 8 ann 20 30"}))
